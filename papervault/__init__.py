@@ -1,0 +1,1 @@
+"""Papervault: answers that come with papers."""
