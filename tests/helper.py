@@ -1,4 +1,4 @@
-"""What several tests need: seals reckoned apart from the program, and things that clash."""
+"""What several tests need: seals and trees reckoned apart from the program, and things that clash."""
 
 FACTOR = 1234567890123456789
 PRIME = 2 ** 61 - 1
@@ -12,22 +12,147 @@ def folded(codes):
     return h + 1
 
 
-def number_sealed(seal, start=0):
-    """A whole number (a thing) with that seal, no less than start * 10 ** 15 - 10 ** 30."""
-    target = (seal - 1 - ((7 * FACTOR + 2) * FACTOR * FACTOR)) % PRIME
+def codes_of(thing):
+    """The row of codes of a thing, by point 7's words."""
+    if thing is None:
+        return [1]
+    if isinstance(thing, int):
+        return [2, (thing + 10 ** 30) // 10 ** 15, (thing + 10 ** 30) % 10 ** 15]
+    if isinstance(thing, str):
+        sevens = [thing[start:start + 7] for start in range(0, len(thing), 7)]
+        return [3, len(thing)] + [sum(ord(sign) * 128 ** power for power, sign in enumerate(reversed(signs)))
+                                  for signs in sevens]
+    return [4, len(thing)] + [code for part in thing for code in codes_of(part)]
+
+
+def number_between(before, behind, seal, start=0):
+    """A whole number (a thing) by which a row of codes, its own between those before and behind, has that seal.
+
+    It is no less than start * 10 ** 15 - 10 ** 30.
+    """
+    power = pow(FACTOR, len(behind), PRIME)
+    rest = seal - folded(before + [2, 0, 0] + behind)
+    target = rest * pow(power, -1, PRIME) % PRIME
     high = start
     while (target - high * FACTOR) % PRIME >= 10 ** 15:
         high += 1
     return high * 10 ** 15 + (target - high * FACTOR) % PRIME - 10 ** 30
 
 
-def twins_of(codes, many=1):
+def twins_of(codes, many=1, start=0):
     """Unlike whole numbers, so many of them, each with the seal of a row of codes."""
+    return numbers_between([], [], folded(codes), many, start)
+
+
+def numbers_between(before, behind, seal, many, start=0):
+    """As number_between, so many of them, rising."""
     found = []
-    start = 0
     while len(found) < many:
-        found.append(number_sealed(folded(codes), start))
+        found.append(number_between(before, behind, seal, start))
         start = (found[-1] + 10 ** 30) // 10 ** 15 + 1
+    return found
+
+
+def rank_of(key):
+    """The rank of a key, by point 11's words."""
+    return folded(codes_of(("rank", key)))
+
+
+def alike_in_rank(key, many, start=0):
+    """Whole numbers, so many of them, rising, each a key with the rank of a key."""
+    return numbers_between([4, 2] + codes_of("rank"), [], rank_of(key), many, start)
+
+
+def order_of(thing):
+    """What a sort may go by, in the order of things."""
+    if thing is None:
+        return (0,)
+    if isinstance(thing, int):
+        return (1, thing)
+    if isinstance(thing, str):
+        return (2, thing)
+    return (3, tuple(order_of(part) for part in thing))
+
+
+def in_order(pairs):
+    """The pairs of a dict from keys to worths, rising."""
+    return sorted(pairs.items(), key=lambda pair: order_of(pair[0]))
+
+
+def reckoned(pairs):
+    """The tree of a dict from keys to worths, by the words of points 10 and 11: its root, and a dict of its nodes."""
+    if not pairs:
+        return 0, {}
+    top = min(pairs, key=lambda key: (-rank_of(key), order_of(key)))
+    left, nodes = reckoned({key: pairs[key] for key in pairs if order_of(key) < order_of(top)})
+    right, others = reckoned({key: pairs[key] for key in pairs if order_of(key) > order_of(top)})
+    node = (top, pairs[top], left, right, len(pairs))
+    return folded(codes_of(node)), {**nodes, **others, folded(codes_of(node)): node}
+
+
+def way(nodes, root, key):
+    """The roots on the way from a root to a key's place, down to the key's own node where it stands."""
+    roots = []
+    while root != 0:
+        roots.append(root)
+        node = nodes[root]
+        if node[0] == key:
+            break
+        root = node[2] if order_of(key) < order_of(node[0]) else node[3]
+    return roots
+
+
+def edge(nodes, root, side):
+    """The roots from a root on along one side: 2 for the left one, 3 for the right one."""
+    roots = []
+    while root != 0:
+        roots.append(root)
+        root = nodes[root][side]
+    return roots
+
+
+def laid(vault, pairs):
+    """The root of the tree of a dict from keys to worths, when its nodes are laid into a vault."""
+    root, nodes = reckoned(pairs)
+    for node in nodes.values():
+        vault.lay(node)
+    return root
+
+
+def spread(many):
+    """Whole numbers, so many of them, rising, whose ranks go up and down."""
+    return [number * number * 10 ** 15 for number in range(many)]
+
+
+def trees():
+    """Dicts from keys to worths, of several sorts."""
+    # Of small numbers each one's rank is that of the one ahead and one: their tree is all one way.
+    chain = {number: ("row", number) for number in range(0, 24, 2)}
+    # Of spread ones it has ways of many sorts.
+    wide = {number: number // 10 ** 15 for number in spread(40)}
+    # Numbers of one rank make nodes of one seal, too, where their worths are alike: so all of these are unlike.
+    alike = alike_in_rank(10 ** 15, 2) + [10 ** 15] + alike_in_rank(10 ** 15, 2, 10 ** 15 + 2)
+    alike += ["abcdefgh"] + alike_in_rank("abcdefgh", 2)
+    tied = {key: ("tied", place) for place, key in enumerate(alike + spread(8)[2:])}
+    mixed = {key: ("of", place) for place, key in enumerate(things()[1:60:2])}
+    return [{}, {5: "w"}, {5: "w", 6: "w"}, {6: 1, 5: 2, "a": 3}, chain, wide, tied, mixed]
+
+
+def bounds_for(pairs):
+    """Keys for asking a tree of these pairs: its own, some that aren't there, far ones."""
+    others = [-10 ** 30, -1, 1, 10 ** 15 - 1, 3 * 10 ** 15, 10 ** 30, "", "a", "zz", (), ("a",), ((),)]
+    keys = list(pairs)
+    return sorted(keys[:9] + keys[-9:] + [key for key in others if key not in pairs], key=order_of)
+
+
+def bad_nodes():
+    """Things that are none of a node, of each kind that point 18 tells; each has its own reason alone."""
+    good = (5, "w", 0, 0, 1)
+    found = [None, 0, 7, "", "node", (), (5,), good[:4], good + (0,), (good,), (good, good)]
+    for place, wrong in [(0, [None]), (1, [None]),
+                         (2, [-1, -10 ** 30, None, "", "0", (), (0,)]), (3, [-1, -10 ** 30, None, "", "0", (), (0,)]),
+                         (4, [0, -1, 301, 302, 10 ** 30, None, "", "1", (), (1,)])]:
+        found.extend(good[:place] + (thing,) + good[place + 1:] for thing in wrong)
     return found
 
 

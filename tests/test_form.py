@@ -34,6 +34,11 @@ STATEMENTS = (ast.Assign, ast.AugAssign, ast.If, ast.While, ast.For, ast.Return,
 EXPRESSIONS = (ast.BoolOp, ast.BinOp, ast.UnaryOp, ast.Lambda, ast.IfExp, ast.Dict, ast.Set, ast.ListComp, ast.Compare,
                ast.Call, ast.JoinedStr, ast.FormattedValue, ast.Constant, ast.Attribute, ast.Subscript, ast.Name,
                ast.List, ast.Tuple, ast.Slice)
+WALKED = ("zip", "enumerate", "reversed", "range")
+WALKERS = ("list", "tuple", "dict", "sorted", "sum", "any", "all", "enumerate", "zip", "min", "max")
+# L26: the names that Python's own values have, but those that a value of an object may have all the same.
+TAKEN = {name for kind in (str, int, list, dict, set, bytes, tuple, Exception) for name in dir(kind)}
+TAKEN -= set("count index title find get join lower upper split strip copy add".split())
 NAME = re.compile(r"[A-Za-z][A-Za-z0-9_]*")
 
 
@@ -184,10 +189,40 @@ def name_faults(node):
         yield "L8 no such name of Python's own: " + name
 
 
+def called(node):
+    """The name of what a call calls, and whether it is a method."""
+    if not isinstance(node, ast.Call):
+        return "", False
+    if isinstance(node.func, ast.Attribute):
+        return node.func.attr, True
+    return getattr(node.func, "id", ""), False
+
+
+def walk_faults(tree):
+    """L23 and L24: what is walked on the spot, and sets."""
+    fine = set()
+    for node in ast.walk(tree):
+        name, method = called(node)
+        if isinstance(node, (ast.For, ast.comprehension)):
+            fine.add(id(node.iter))
+        if (name in WALKERS and not method) or (name == "join" and method):
+            fine.update(id(part) for part in node.args)
+        if isinstance(node, ast.Compare):
+            fine.update(id(part) for part in [node.left] + node.comparators if called(part)[0] == "set")
+        if name in ("sorted", "len") and not node.keywords:
+            fine.update(id(part) for one in node.args for part in ast.walk(one) if called(part)[0] == "set")
+    for node in ast.walk(tree):
+        name, method = called(node)
+        if id(node) not in fine and name in (("items", "keys", "values") if method else WALKED):
+            yield node.lineno, "L23 walked on the spot: " + name
+        if name in ("set", "frozenset") and not method and id(node) not in fine:
+            yield node.lineno, "L24 a set is kept"
+
+
 def file_faults(text):
     """The faults of one file: a list of (line, words)."""
     tree = ast.parse(text)
-    found = list(line_faults(text)) + list(top_faults(tree))
+    found = list(line_faults(text)) + list(top_faults(tree)) + list(walk_faults(tree))
     for node in ast.walk(tree):
         for faults in (statement_faults(node) if isinstance(node, ast.stmt) else [],
                        expression_faults(node) if isinstance(node, ast.expr) else [], name_faults(node)):
@@ -229,6 +264,8 @@ def member_faults(trees):
     called = {id(node.func) for name, node in nodes if isinstance(node, ast.Call)}
     stored = {node.attr for name, node in nodes if isinstance(node, ast.Attribute) and isinstance(node.ctx, ast.Store)}
     class_names = [one.name for one in classes]
+    for name in sorted(stored & TAKEN):
+        yield name, "L26 no name for a value"
     for name in sorted(methods & stored):
         yield name, "L18 a method in one class and a value in another"
     for name, node in nodes:
@@ -288,15 +325,19 @@ class FormIsSeen(unittest.TestCase):
                 ("L15", "x = 1\nx = 2\n"), ("L17", "# a type\n"), ("L17", "def f(x):\n    return chr(x)\n"),
                 ("L19", "def f(x):\n    try:\n        x()\n    except Exception:\n        pass\n"),
                 ("L20", "def f(x, y):\n    return x is y\n"), ("L21", "def f(x: int):\n    pass\n"),
-                ("L22", "def f(x):\n    return int(x, base=2)\n"), ("L27", "def f(n):\n    return 2 ** n\n"),
+                ("L22", "def f(x):\n    return int(x, base=2)\n"), ("L23", "def f(x):\n    return reversed(x)\n"),
+                ("L23", "def f(x):\n    y = x.items()\n    return y\n"), ("L24", "def f(x):\n    return set(x)\n"),
+                ("L27", "def f(n):\n    return 2 ** n\n"),
                 ("L27", "x = '%'\n")]:
             self.assertIn(rule, [words.split()[0] for line, words in file_faults(text)], text)
 
     def test_in_several_files(self):
-        trees = {"papervault.a": ast.parse("from papervault.b import g\ndef f():\n    pass\n"),
-                 "papervault.b": ast.parse("from papervault.a import f\ndef g(x):\n    return x.casefold()\n")}
+        one = "from papervault.b import g\ndef f():\n    pass\n"
+        other = "from papervault.a import f\ndef g(x):\n    x.keys = 1\n    return x.casefold()\n"
+        trees = {"papervault.a": ast.parse(one), "papervault.b": ast.parse(other)}
         self.assertIn("L16", [words.split()[0] for name, words in import_faults(trees)])
-        self.assertIn("L25", [words.split()[0] for name, words in member_faults(trees)])
+        for rule in ("L25", "L26"):
+            self.assertIn(rule, [words.split()[0] for name, words in member_faults(trees)])
 
 
 if __name__ == "__main__":

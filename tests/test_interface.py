@@ -3,9 +3,13 @@
 import inspect
 import unittest
 
+from papervault.asks import Also, Ask, Count, Cut, Find, Nth, Put, Stretch
 from papervault.errors import Clash, VaultError
+from papervault.nodes import above, node_at, size
+from papervault.papers import answer_with_paper, checked
 from papervault.seals import seal
 from papervault.things import ahead, is_thing, thing_in, written
+from papervault.trees import counted, cut, found, join, nth, part, put, stretch
 from papervault.vaults import Keeper, Reader, Vault, Witness
 
 
@@ -21,6 +25,19 @@ class Interface(unittest.TestCase):
         self.assertEqual(arguments(written), ["thing"])
         self.assertEqual(arguments(thing_in), ["text"])
         self.assertEqual(arguments(seal), ["thing"])
+        self.assertEqual(arguments(node_at), ["vault", "root"])
+        self.assertEqual(arguments(above), ["key", "other"])
+        self.assertEqual(arguments(size), ["vault", "root"])
+        self.assertEqual(arguments(found), ["vault", "root", "key"])
+        self.assertEqual(arguments(stretch), ["vault", "root", "low", "high"])
+        self.assertEqual(arguments(counted), ["vault", "root", "low", "high"])
+        self.assertEqual(arguments(nth), ["vault", "root", "number"])
+        self.assertEqual(arguments(put), ["vault", "root", "key", "worth"])
+        self.assertEqual(arguments(cut), ["vault", "root", "key"])
+        self.assertEqual(arguments(part), ["vault", "root", "key"])
+        self.assertEqual(arguments(join), ["vault", "left", "right"])
+        self.assertEqual(arguments(answer_with_paper), ["keeper", "root", "ask"])
+        self.assertEqual(arguments(checked), ["root", "ask", "paper"])
 
     def test_methods(self):
         for vault in (Vault(), Keeper(), Reader(Keeper()), Witness([])):
@@ -29,6 +46,13 @@ class Interface(unittest.TestCase):
             self.assertIsInstance(vault, Vault)
         self.assertEqual(arguments(Keeper().things), [])
         self.assertEqual(arguments(Reader(Keeper()).paper), [])
+
+    def test_asks(self):
+        for made, names in [(Ask, []), (Find, ["key"]), (Stretch, ["low", "high"]), (Count, ["low", "high"]),
+                            (Nth, ["number"]), (Put, ["key", "worth"]), (Cut, ["key"]), (Also, ["asks"])]:
+            self.assertEqual(arguments(made), names)
+            self.assertEqual(inspect.getmro(made)[-2:-1], (Ask,))
+            self.assertEqual(arguments(made(*[[]] * len(names)).answer), ["vault", "root"])
 
     def test_classes(self):
         self.assertEqual(arguments(Vault), [])

@@ -3,7 +3,7 @@
 import unittest
 
 from papervault.seals import seal
-from tests.helper import folded, nested, number_sealed, things, twins_of
+from tests.helper import folded, nested, number_between, things, twins_of
 
 
 # Reckoned once, apart from the program.
@@ -72,7 +72,7 @@ class Seals(unittest.TestCase):
 
     def test_the_least_and_the_greatest_seal(self):
         for number in (1, 2, 2 ** 61 - 2, 2 ** 61 - 1):
-            self.assertEqual(seal(number_sealed(number)), number)
+            self.assertEqual(seal(number_between([], [], number)), number)
 
     def test_a_thing_written_anew_has_its_seal(self):
         seals = [seal(thing) for thing in things()]
