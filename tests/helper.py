@@ -53,6 +53,20 @@ def numbers_between(before, behind, seal, many, start=0):
     return found
 
 
+def balance(apart):
+    """Two whole numbers, neither 0, both far below 10 ** 12.
+
+    Where a code becomes greater by the first one, and the code so many behind it by the second one, a seal stays.
+    """
+    factor = pow(FACTOR, apart, PRIME)
+    # By Euclid's way down: each pair (rest, times) has rest like times * factor, but for whole primes.
+    elder, younger = (PRIME, 0), (factor, 1)
+    while younger[0] >= 2 ** 31:
+        whole = elder[0] // younger[0]
+        elder, younger = younger, (elder[0] - whole * younger[0], elder[1] - whole * younger[1])
+    return younger[1], -younger[0]
+
+
 def rank_of(key):
     """The rank of a key, by point 11's words."""
     return folded(codes_of(("rank", key)))
@@ -117,6 +131,46 @@ def laid(vault, pairs):
     for node in nodes.values():
         vault.lay(node)
     return root
+
+
+def reckoned_state(tables):
+    """The state of a dict from names to tuples (columns, rows, numbers of the columns with an order).
+
+    By the words of point 23: its root, and a dict of the nodes of all of its trees.
+    """
+    nodes, pairs = {}, {}
+    for name, (columns, rows, numbers) in tables.items():
+        rows_root, more = reckoned({row[0]: row for row in rows})
+        nodes.update(more)
+        orders = []
+        for number in sorted(numbers):
+            root, more = reckoned({(row[number], row[0]): 1 for row in rows})
+            nodes.update(more)
+            orders.append((number, root))
+        pairs[name] = (columns, rows_root, tuple(orders))
+    root, more = reckoned(pairs)
+    return root, {**nodes, **more}
+
+
+def laid_state(vault, tables):
+    """The root of the state of reckoned_state, when its nodes are laid into a vault."""
+    root, nodes = reckoned_state(tables)
+    for node in nodes.values():
+        vault.lay(node)
+    return root
+
+
+def states():
+    """Dicts as reckoned_state wants them, of several sorts."""
+    people = [(1, "ann", 31), (2, "bob", 27), (3, "cleo", 31), (10, "", -5), ("x", "bob", "27"), ("", 0, 0)]
+    towns = [("bonn", -10 ** 12), ("", 5), ("ghent", 10 ** 12), (0, "a b"), (-7, "~" * 20)]
+    bare = ("people", (("key", "name", "age"), [], []))
+    return [
+        {}, dict([bare]), {"a": (("a",), [(number,) for number in range(20)], [])},
+        {"people": (("key", "name", "age"), people, [1, 2])}, {"people": (("key", "name", "age"), people, [2])},
+        {"towns": (("town", "people"), towns, [1]), "people": (("key", "name", "age"), people, [1]),
+         "empty": (("b", "a"), [], [1]), "abcdefgh": (("a", "b", "c", "d", "e", "f"), [(1, 2, 3, 4, 5, 6)], [1, 3, 5])},
+    ]
 
 
 def spread(many):

@@ -4,13 +4,18 @@ import inspect
 import unittest
 
 from papervault.asks import Also, Ask, Count, Cut, Find, Nth, Put, Stretch
+from papervault.clashes import clash_of, shown
 from papervault.errors import Clash, VaultError
+from papervault.names import is_name, is_value
 from papervault.nodes import above, node_at, size
 from papervault.papers import answer_with_paper, checked
 from papervault.seals import seal
+from papervault.tables import (columns_of, cut_row, drop_order, drop_table, make_order, make_table, names, ordered,
+                               put_row, row_at, rows_of, table_at)
 from papervault.things import ahead, is_thing, thing_in, written
 from papervault.trees import counted, cut, found, join, nth, part, put, stretch
 from papervault.vaults import Keeper, Reader, Vault, Witness
+from papervault.words import value_of, words_in
 
 
 def arguments(call):
@@ -38,6 +43,20 @@ class Interface(unittest.TestCase):
         self.assertEqual(arguments(join), ["vault", "left", "right"])
         self.assertEqual(arguments(answer_with_paper), ["keeper", "root", "ask"])
         self.assertEqual(arguments(checked), ["root", "ask", "paper"])
+        self.assertEqual(arguments(clash_of), ["paper", "keeper"])
+        self.assertEqual(arguments(shown), ["root", "ask", "paper", "keeper"])
+        self.assertEqual(arguments(is_name), ["thing"])
+        self.assertEqual(arguments(is_value), ["thing"])
+        self.assertEqual(arguments(words_in), ["text"])
+        self.assertEqual(arguments(value_of), ["word"])
+
+    def test_functions_of_tables(self):
+        self.assertEqual(arguments(names), ["vault", "root"])
+        for call in (table_at, columns_of, ordered, rows_of, drop_table):
+            self.assertEqual(arguments(call), ["vault", "root", "name"])
+        for call, last in [(row_at, "value"), (make_table, "columns"), (make_order, "column"), (drop_order, "column"),
+                           (put_row, "row"), (cut_row, "value")]:
+            self.assertEqual(arguments(call), ["vault", "root", "name", last])
 
     def test_methods(self):
         for vault in (Vault(), Keeper(), Reader(Keeper()), Witness([])):
